@@ -1,0 +1,91 @@
+// Package routelog: a collector of routes that keeps what it hears in files: see DOC.md.
+package routelog
+
+import (
+	"routelog/api"
+	"routelog/message"
+)
+
+// Disk is files.
+type Disk struct{}
+
+// Collector is peers, what they have told, and a log on a disk.
+type Collector struct{}
+
+// Frame tells the length and the type of the message that begins a stream (P3).
+func Frame(b string) (int, int, api.Errno) { return message.Frame(b) }
+
+// Update reads an update (P4, P5).
+func Update(m string) (api.Change, api.Errno) { return message.Update(m) }
+
+// Announce writes an update (P6).
+func Announce(attrs string, l []api.Prefix) (string, api.Errno) { return message.Announce(attrs, l) }
+
+// NewDisk makes an empty disk (P7).
+func NewDisk(capacity int) *Disk { return nil }
+
+// Append writes at the end of a file (P7).
+func (d *Disk) Append(name string, b string) api.Errno { return api.OK }
+
+// Sync makes a file outlast a crash (P7).
+func (d *Disk) Sync(name string) api.Errno { return api.OK }
+
+// Rename gives a file another name (P7).
+func (d *Disk) Rename(from string, to string) api.Errno { return api.OK }
+
+// Delete removes a file (P7).
+func (d *Disk) Delete(name string) api.Errno { return api.OK }
+
+// Truncate cuts a file (P7).
+func (d *Disk) Truncate(name string, n int) api.Errno { return api.OK }
+
+// Read tells what is in a file (P7).
+func (d *Disk) Read(name string) (string, api.Errno) { return "", api.OK }
+
+// List tells the files' names (P7).
+func (d *Disk) List() ([]string, api.Errno) { return nil, api.OK }
+
+// Used tells how many bytes all files have (P7).
+func (d *Disk) Used() (int, api.Errno) { return 0, api.OK }
+
+// Crash loses what was not synced (P8).
+func (d *Disk) Crash(keep []int) api.Errno { return api.OK }
+
+// Break lets the disk break (P8).
+func (d *Disk) Break(n int) api.Errno { return api.OK }
+
+// Scan reads records (P9).
+func Scan(b string) ([]api.Record, int) { return nil, 0 }
+
+// Query tells the routes that a peer had (P11).
+func Query(d *Disk, peer int, t int) ([]api.Entry, bool, api.Errno) { return nil, false, api.OK }
+
+// Open begins to collect (P13).
+func Open(d *Disk) (*Collector, api.Errno) { return nil, api.OK }
+
+// Connect begins a connection (P15).
+func (c *Collector) Connect(peer int) (string, api.Errno) { return "", api.OK }
+
+// Receive takes bytes of a connection (P16).
+func (c *Collector) Receive(peer int, b string) (string, api.Errno) { return "", api.OK }
+
+// Disconnect ends a connection (P15).
+func (c *Collector) Disconnect(peer int) api.Errno { return api.OK }
+
+// Feed takes bytes of the feed (P17).
+func (c *Collector) Feed(b string) api.Errno { return api.OK }
+
+// Tick lets time pass (P18).
+func (c *Collector) Tick(t int) ([]api.Sent, api.Errno) { return nil, api.OK }
+
+// Sync makes the log outlast a crash (P18).
+func (c *Collector) Sync() api.Errno { return api.OK }
+
+// Routes tells the routes that a peer has (P18).
+func (c *Collector) Routes(peer int) ([]api.Entry, bool, api.Errno) { return nil, false, api.OK }
+
+// Writes tells whether the collector still writes (P14).
+func (c *Collector) Writes() (bool, api.Errno) { return false, api.OK }
+
+// Replay tells a peer's routes as messages (P19).
+func Replay(d *Disk, peer int, t int) ([]string, api.Errno) { return nil, api.OK }
