@@ -3,11 +3,22 @@ package routelog
 
 import (
 	"routelog/api"
+	"routelog/disk"
 	"routelog/message"
 )
 
 // Disk is files.
-type Disk struct{}
+type Disk struct {
+	inner *disk.Disk
+}
+
+// files answers what the calls of a disk are about; nil of a disk that is nil.
+func (d *Disk) files() *disk.Disk {
+	if d == nil {
+		return nil
+	}
+	return d.inner
+}
 
 // Collector is peers, what they have told, and a log on a disk.
 type Collector struct{}
@@ -22,37 +33,37 @@ func Update(m string) (api.Change, api.Errno) { return message.Update(m) }
 func Announce(attrs string, l []api.Prefix) (string, api.Errno) { return message.Announce(attrs, l) }
 
 // NewDisk makes an empty disk (P7).
-func NewDisk(capacity int) *Disk { return nil }
+func NewDisk(capacity int) *Disk { return &Disk{inner: disk.New(capacity)} }
 
 // Append writes at the end of a file (P7).
-func (d *Disk) Append(name string, b string) api.Errno { return api.OK }
+func (d *Disk) Append(name string, b string) api.Errno { return d.files().Append(name, b) }
 
 // Sync makes a file outlast a crash (P7).
-func (d *Disk) Sync(name string) api.Errno { return api.OK }
+func (d *Disk) Sync(name string) api.Errno { return d.files().Sync(name) }
 
 // Rename gives a file another name (P7).
-func (d *Disk) Rename(from string, to string) api.Errno { return api.OK }
+func (d *Disk) Rename(from string, to string) api.Errno { return d.files().Rename(from, to) }
 
 // Delete removes a file (P7).
-func (d *Disk) Delete(name string) api.Errno { return api.OK }
+func (d *Disk) Delete(name string) api.Errno { return d.files().Delete(name) }
 
 // Truncate cuts a file (P7).
-func (d *Disk) Truncate(name string, n int) api.Errno { return api.OK }
+func (d *Disk) Truncate(name string, n int) api.Errno { return d.files().Truncate(name, n) }
 
 // Read tells what is in a file (P7).
-func (d *Disk) Read(name string) (string, api.Errno) { return "", api.OK }
+func (d *Disk) Read(name string) (string, api.Errno) { return d.files().Read(name) }
 
 // List tells the files' names (P7).
-func (d *Disk) List() ([]string, api.Errno) { return nil, api.OK }
+func (d *Disk) List() ([]string, api.Errno) { return d.files().List() }
 
 // Used tells how many bytes all files have (P7).
-func (d *Disk) Used() (int, api.Errno) { return 0, api.OK }
+func (d *Disk) Used() (int, api.Errno) { return d.files().Used() }
 
 // Crash loses what was not synced (P8).
-func (d *Disk) Crash(keep []int) api.Errno { return api.OK }
+func (d *Disk) Crash(keep []int) api.Errno { return d.files().Crash(keep) }
 
 // Break lets the disk break (P8).
-func (d *Disk) Break(n int) api.Errno { return api.OK }
+func (d *Disk) Break(n int) api.Errno { return d.files().Break(n) }
 
 // Scan reads records (P9).
 func Scan(b string) ([]api.Record, int) { return nil, 0 }
