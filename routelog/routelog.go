@@ -4,7 +4,9 @@ package routelog
 import (
 	"routelog/api"
 	"routelog/disk"
+	"routelog/journal"
 	"routelog/message"
+	"routelog/record"
 )
 
 // Disk is files.
@@ -66,10 +68,12 @@ func (d *Disk) Crash(keep []int) api.Errno { return d.files().Crash(keep) }
 func (d *Disk) Break(n int) api.Errno { return d.files().Break(n) }
 
 // Scan reads records (P9).
-func Scan(b string) ([]api.Record, int) { return nil, 0 }
+func Scan(b string) ([]api.Record, int) { return record.Scan(b) }
 
 // Query tells the routes that a peer had (P11).
-func Query(d *Disk, peer int, t int) ([]api.Entry, bool, api.Errno) { return nil, false, api.OK }
+func Query(d *Disk, peer int, t int) ([]api.Entry, bool, api.Errno) {
+	return journal.Query(d.files(), peer, t)
+}
 
 // Open begins to collect (P13).
 func Open(d *Disk) (*Collector, api.Errno) { return nil, api.OK }
