@@ -8,22 +8,22 @@ import (
 	"routelog/state"
 )
 
-// Records hands on the records of a disk's log, one by one, and then closes the channel.
+// records hands on the records of segments, one by one, and then closes the channel.
 // Whoever asks must range over them to the end: only then does nobody read the disk any more.
-func Records(d *disk.Disk) <-chan api.Record {
-	records := make(chan api.Record)
+func records(d *disk.Disk, names ...string) <-chan api.Record {
+	out := make(chan api.Record)
 	go func() {
-		defer close(records)
-		for _, name := range segments(d) {
+		defer close(out)
+		for _, name := range names {
 			// A file that is listed can be read.
 			b, _ := d.Read(name)
 			l, _ := record.Scan(b)
 			for _, r := range l {
-				records <- r
+				out <- r
 			}
 		}
 	}()
-	return records
+	return out
 }
 
 // Query answers the routes that a peer had at a time, and whether it was up then (P11).
@@ -46,11 +46,39 @@ func Query(d *disk.Disk, peer, t int) ([]api.Entry, bool, api.Errno) {
 func stateAt(d *disk.Disk, t int) state.State {
 	var s state.State
 	above := false
-	for r := range Records(d) {
+	for r := range records(d, segments(d)...) {
 		above = above || r.Time > t
 		if !above {
 			s.Apply(r)
 		}
 	}
 	return s
+}
+
+// stateAtEnd answers the state that the whole log of a disk tells.
+func stateAtEnd(d *disk.Disk) state.State {
+	var s state.State
+	for r := range records(d, sinceHead(d)...) {
+		s.Apply(r)
+	}
+	return s
+}
+
+// sinceHead answers the last segments of a disk that tell the state on their own:
+// those from the last one that begins with a Head. They are all of them, if none does.
+func sinceHead(d *disk.Disk) []string {
+	names := segments(d)
+	for i := len(names) - 1; i > 0; i-- {
+		if r, there := firstOf(d, names[i]); there && r.Kind == api.Head {
+			return names[i:]
+		}
+	}
+	return names
+}
+
+// firstOf answers the first record of a segment; false, if it has none.
+func firstOf(d *disk.Disk, name string) (api.Record, bool) {
+	b, _ := d.Read(name)
+	r, n := record.First(b)
+	return r, n > 0
 }

@@ -2,6 +2,8 @@ package journal
 
 import (
 	"slices"
+	"strconv"
+	"strings"
 
 	"routelog/disk"
 )
@@ -30,4 +32,16 @@ func isSegment(name string) bool {
 		}
 	}
 	return true
+}
+
+// nameOf answers the name of the segment of a number.
+func nameOf(n int) string {
+	digits := strconv.Itoa(n)
+	return string(mark) + strings.Repeat("0", nameLength-1-len(digits)) + digits
+}
+
+// numberOf answers the number of the segment of a name.
+func numberOf(name string) int {
+	n, _ := strconv.Atoi(name[1:])
+	return n
 }

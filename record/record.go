@@ -30,7 +30,7 @@ func Scan(b string) ([]api.Record, int) {
 	var l []api.Record
 	n := 0
 	for {
-		r, size := first(b[n:])
+		r, size := First(b[n:])
 		if size == 0 {
 			return l, n
 		}
@@ -39,8 +39,8 @@ func Scan(b string) ([]api.Record, int) {
 	}
 }
 
-// first answers the record that begins b, and how many bytes it has: 0, if there is none.
-func first(b string) (api.Record, int) {
+// First answers the record that begins b, and how many bytes it has: 0, if there is none.
+func First(b string) (api.Record, int) {
 	if len(b) < headEnd {
 		return api.Record{}, 0
 	}

@@ -3,6 +3,7 @@ package routelog
 
 import (
 	"routelog/api"
+	"routelog/collector"
 	"routelog/disk"
 	"routelog/journal"
 	"routelog/message"
@@ -23,7 +24,17 @@ func (d *Disk) files() *disk.Disk {
 }
 
 // Collector is peers, what they have told, and a log on a disk.
-type Collector struct{}
+type Collector struct {
+	inner *collector.Collector
+}
+
+// work answers what the calls of a collector are about; nil of a collector that is nil.
+func (c *Collector) work() *collector.Collector {
+	if c == nil {
+		return nil
+	}
+	return c.inner
+}
 
 // Frame tells the length and the type of the message that begins a stream (P3).
 func Frame(b string) (int, int, api.Errno) { return message.Frame(b) }
@@ -76,31 +87,37 @@ func Query(d *Disk, peer int, t int) ([]api.Entry, bool, api.Errno) {
 }
 
 // Open begins to collect (P13).
-func Open(d *Disk) (*Collector, api.Errno) { return nil, api.OK }
+func Open(d *Disk) (*Collector, api.Errno) {
+	c, e := collector.Open(d.files())
+	if e != api.OK {
+		return nil, e
+	}
+	return &Collector{inner: c}, api.OK
+}
 
 // Connect begins a connection (P15).
-func (c *Collector) Connect(peer int) (string, api.Errno) { return "", api.OK }
+func (c *Collector) Connect(peer int) (string, api.Errno) { return c.work().Connect(peer) }
 
 // Receive takes bytes of a connection (P16).
-func (c *Collector) Receive(peer int, b string) (string, api.Errno) { return "", api.OK }
+func (c *Collector) Receive(peer int, b string) (string, api.Errno) { return c.work().Receive(peer, b) }
 
 // Disconnect ends a connection (P15).
-func (c *Collector) Disconnect(peer int) api.Errno { return api.OK }
+func (c *Collector) Disconnect(peer int) api.Errno { return c.work().Disconnect(peer) }
 
 // Feed takes bytes of the feed (P17).
-func (c *Collector) Feed(b string) api.Errno { return api.OK }
+func (c *Collector) Feed(b string) api.Errno { return c.work().Feed(b) }
 
 // Tick lets time pass (P18).
-func (c *Collector) Tick(t int) ([]api.Sent, api.Errno) { return nil, api.OK }
+func (c *Collector) Tick(t int) ([]api.Sent, api.Errno) { return c.work().Tick(t) }
 
 // Sync makes the log outlast a crash (P18).
-func (c *Collector) Sync() api.Errno { return api.OK }
+func (c *Collector) Sync() api.Errno { return c.work().Sync() }
 
 // Routes tells the routes that a peer has (P18).
-func (c *Collector) Routes(peer int) ([]api.Entry, bool, api.Errno) { return nil, false, api.OK }
+func (c *Collector) Routes(peer int) ([]api.Entry, bool, api.Errno) { return c.work().Routes(peer) }
 
 // Writes tells whether the collector still writes (P14).
-func (c *Collector) Writes() (bool, api.Errno) { return false, api.OK }
+func (c *Collector) Writes() (bool, api.Errno) { return c.work().Writes() }
 
 // Replay tells a peer's routes as messages (P19).
 func Replay(d *Disk, peer int, t int) ([]string, api.Errno) { return nil, api.OK }

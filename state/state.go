@@ -41,6 +41,11 @@ func (s *State) Apply(r api.Record) {
 	}
 }
 
+// IsUp tells whether a peer is up.
+func (s *State) IsUp(number int) bool {
+	return s.peers[number].up
+}
+
 // Routes answers the routes of a peer, by address and then by length, and whether it is up.
 func (s *State) Routes(number int) ([]api.Entry, bool) {
 	p := s.peers[number]
