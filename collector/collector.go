@@ -10,8 +10,9 @@ import (
 // Collector is those who are heard, and the log that is written of what they tell.
 // What the peers have is told by the log alone.
 type Collector struct {
-	log  *journal.Writer
-	feed stream
+	log         *journal.Writer
+	feed        stream
+	connections [api.Sessions]*connection // nil of a peer that has none
 }
 
 // Open begins to collect on a disk (P13).
@@ -23,21 +24,6 @@ func Open(d *disk.Disk) (*Collector, api.Errno) {
 	return &Collector{log: log, feed: stream{speaker: feed{log}}}, api.OK
 }
 
-// Connect is refused by a collector that writes no more (P14). There are no connections yet.
-func (c *Collector) Connect(peer int) (string, api.Errno) {
-	return "", c.check()
-}
-
-// Receive is refused as Connect is.
-func (c *Collector) Receive(peer int, b string) (string, api.Errno) {
-	return "", c.check()
-}
-
-// Disconnect is refused as Connect is.
-func (c *Collector) Disconnect(peer int) api.Errno {
-	return c.check()
-}
-
 // Feed takes bytes of the feed (P17).
 func (c *Collector) Feed(b string) api.Errno {
 	if e := c.check(); e != api.OK {
@@ -45,13 +31,13 @@ func (c *Collector) Feed(b string) api.Errno {
 	}
 	_, e := c.feed.hear(b)
 	// That the collector has become full tells more than what else was wrong.
-	if full := c.check(); full != api.OK {
+	if full := c.settle(); full != api.OK {
 		return full
 	}
 	return e
 }
 
-// Tick lets time pass (P18).
+// Tick lets time pass, and answers what is said to the peers that were silent for too long (P18).
 func (c *Collector) Tick(t int) ([]api.Sent, api.Errno) {
 	if e := c.check(); e != api.OK {
 		return nil, e
@@ -60,7 +46,16 @@ func (c *Collector) Tick(t int) ([]api.Sent, api.Errno) {
 		return nil, api.ErrArg
 	}
 	c.log.Pass(t)
-	return nil, api.OK
+	var sent []api.Sent
+	for peer, open := range c.connections {
+		if open != nil && open.session.silent() {
+			sent = append(sent, api.Sent{Peer: peer, Bytes: open.session.endWith(silence)})
+		}
+	}
+	if e := c.settle(); e != api.OK {
+		return nil, e
+	}
+	return sent, api.OK
 }
 
 // Sync makes the log outlast a crash (P18).
@@ -102,4 +97,16 @@ func (c *Collector) check() api.Errno {
 		return api.ErrFull
 	}
 	return api.OK
+}
+
+// settle lets go of the connections that a call has ended, and answers ErrFull, if it was the one that met that:
+// then it lets go of all (P14).
+func (c *Collector) settle() api.Errno {
+	e := c.check()
+	for peer, open := range c.connections {
+		if open != nil && (e != api.OK || open.session.stage == ended) {
+			c.connections[peer] = nil
+		}
+	}
+	return e
 }

@@ -32,6 +32,11 @@ func (w *Writer) State() state.State {
 	return stateAtEnd(w.disk)
 }
 
+// Now answers the time that is now.
+func (w *Writer) Now() int {
+	return w.now
+}
+
 // Pass lets time pass, to t if that is not over yet.
 func (w *Writer) Pass(t int) {
 	w.now = max(w.now, t)

@@ -1,4 +1,4 @@
-// Package message: messages as bytes: where one ends, what an update changes, and the update that announces.
+// Package message: messages as bytes: where one ends, what openings and updates tell, and those that are sent or told again.
 package message
 
 import (
@@ -30,6 +30,11 @@ func Frame(b string) (int, int, api.Errno) {
 		return 0, 0, api.OK
 	}
 	return n, int(b[lengthEnd]), api.OK
+}
+
+// Split answers the type and the content of a whole message.
+func Split(m string) (kind int, content string) {
+	return int(m[lengthEnd]), m[headSize:]
 }
 
 // build answers the message of a type whose content is these parts, one behind the other.

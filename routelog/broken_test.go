@@ -1,6 +1,7 @@
 package routelog_test
 
 import (
+	"math/rand"
 	"slices"
 	"sort"
 	"strconv"
@@ -10,30 +11,80 @@ import (
 	"routelog/routelog"
 )
 
-// tale is what a collector is asked for, step by step; a step that is empty is a Sync.
-type tale []string
-
-// longTale answers steps that lead over several segments.
-func longTale(t *testing.T) tale {
-	t.Helper()
-	u, w := announcing(t, 1, "", "08 0a 10 0a 01"), announcing(t, 2, "08 0a", "20 01 02 03 04")
-	steps := tale{came(4), says(4, u), "", came(5) + says(5, w)}
-	for range 4 {
-		steps = append(steps, says(4, w)+says(5, u), gone(5)+came(5), "", says(4, u), "\x03\x00\x05\x02", "\x05"+says(5, u)+came(5)+says(5, w))
-	}
-	return append(steps, frame(frameAllGone, ""))
+// step is something that a collector is asked for, which answers OK, also of a disk that breaks meanwhile.
+type step struct {
+	call  func(*routelog.Collector) api.Errno
+	syncs bool
 }
 
-// tell lets a collector take steps; each answers OK, also of a disk that breaks meanwhile.
+// tale is steps, one behind the other.
+type tale []step
+
+func syncing() step {
+	return step{(*routelog.Collector).Sync, true}
+}
+
+func feeding(b string) step {
+	return step{func(c *routelog.Collector) api.Errno { return c.Feed(b) }, false}
+}
+
+func connecting(peer int) step {
+	return step{func(c *routelog.Collector) api.Errno {
+		_, e := c.Connect(peer)
+		return e
+	}, false}
+}
+
+func hearing(peer int, b string) step {
+	return step{func(c *routelog.Collector) api.Errno {
+		_, e := c.Receive(peer, b)
+		return e
+	}, false}
+}
+
+func disconnecting(peer int) step {
+	return step{func(c *routelog.Collector) api.Errno { return c.Disconnect(peer) }, false}
+}
+
+// feedTale answers steps of the feed that lead over several segments.
+func feedTale(t *testing.T) tale {
+	t.Helper()
+	u, w := announcing(t, 1, "", "08 0a 10 0a 01"), announcing(t, 2, "08 0a", "20 01 02 03 04")
+	steps := tale{feeding(came(4)), feeding(says(4, u)), syncing(), feeding(came(5) + says(5, w))}
+	for range 4 {
+		steps = append(steps, feeding(says(4, w)+says(5, u)), feeding(gone(5)+came(5)), syncing(), feeding(says(4, u)), feeding("\x03\x00\x05\x02"), feeding("\x05"+says(5, u)+came(5)+says(5, w)))
+	}
+	return append(steps, feeding(frame(frameAllGone, "")))
+}
+
+// sessionTale answers steps of connections, with some of the feed, that lead over several segments.
+// Of those of peer 1 some end as it is silent for too long.
+func sessionTale(t *testing.T) tale {
+	t.Helper()
+	u, w := announcing(t, 1, "", "08 0a 10 0a 01"), announcing(t, 2, "08 0a", "20 01 02 03 04")
+	steps := tale{connecting(0), hearing(0, greeting(90)+alive), feeding(came(5))}
+	for range 3 {
+		steps = append(steps,
+			connecting(1), hearing(1, greeting(3)+alive+u), hearing(0, w+u), syncing(), hearing(0, u[:33]),
+			connecting(1), hearing(1, greeting(0)), hearing(0, u[33:]+alive), hearing(1, alive+u+u[:30]), feeding(says(5, w)), hearing(1, u[30:]+"wrong"),
+			connecting(3), hearing(3, greeting(90)+alive+w), syncing(), disconnecting(3), connecting(3), hearing(3, greeting(9)+alive+u+notice(6)),
+		)
+	}
+	return append(steps, connecting(2), hearing(2, greeting(30)+alive+w), hearing(0, announcingBytes(t, "", routesFrom(0, 13))))
+}
+
+// longTale answers both, one behind the other.
+func longTale(t *testing.T) tale {
+	t.Helper()
+	return slices.Concat(feedTale(t), sessionTale(t))
+}
+
+// tell lets a collector take steps, each a while behind the one ahead of it.
 func (s tale) tell(t *testing.T, c *routelog.Collector) {
 	t.Helper()
 	for i, step := range s {
-		tick(t, c, 10+i)
-		if step == "" {
-			checkErrors(t, "Sync", api.OK, c.Sync())
-		} else {
-			feed(t, c, step)
-		}
+		_, e := c.Tick(10 + i)
+		checkErrors(t, "step "+strconv.Itoa(i), api.OK, e, step.call(c))
 	}
 }
 
@@ -98,34 +149,40 @@ func checkBegins(t *testing.T, what string, log, with []api.Record) {
 // A disk that breaks at any call, also while it is opened, and a crash: the log is the beginning of what it would be,
 // and it begins with what was there at the last Sync ahead of the break.
 func TestBrokenAnywhere(t *testing.T) {
-	steps := longTale(t)
-	for _, disk := range []func(*testing.T) *routelog.Disk{tornDisk, emptyDisk} {
-		whole := logOf(toldOn(t, disk, plenty, steps))
-		end := callsOf(t, disk, steps)
-		safe := map[int][]api.Record{0: logOf(disk(t))}
-		for i, step := range steps {
-			if step == "" {
-				safe[callsOf(t, disk, steps[:i+1])] = logOf(toldOn(t, disk, plenty, steps[:i+1]))
-			}
+	for _, steps := range []tale{feedTale(t), sessionTale(t)} {
+		for _, disk := range []func(*testing.T) *routelog.Disk{tornDisk, emptyDisk} {
+			checkBrokenAnywhere(t, disk, steps)
 		}
-		var synced []api.Record
-		for n := range end + 1 {
-			if l, there := safe[n]; there {
-				synced = l
-			}
-			for _, keep := range [][]int{nil, {3, 1, 13, 9, 70, 12, 99, 24}, {plenty, plenty, plenty, plenty, plenty, plenty, plenty, plenty}} {
-				what := "broken behind " + strconv.Itoa(n)
-				d := toldOn(t, disk, n, steps)
-				checkErrors(t, what, api.OK, d.Crash(keep))
-				left := logOf(d)
-				checkBegins(t, what, whole, left)
-				checkBegins(t, what, left, synced)
-				checkGoesOn(t, what, d, n%9)
-			}
+	}
+}
+
+func checkBrokenAnywhere(t *testing.T, disk func(*testing.T) *routelog.Disk, steps tale) {
+	t.Helper()
+	whole := logOf(toldOn(t, disk, plenty, steps))
+	end := callsOf(t, disk, steps)
+	safe := map[int][]api.Record{0: logOf(disk(t))}
+	for i, step := range steps {
+		if step.syncs {
+			safe[callsOf(t, disk, steps[:i+1])] = logOf(toldOn(t, disk, plenty, steps[:i+1]))
 		}
-		if end < 60 || len(safe) < 5 || len(whole) < len(synced) {
-			t.Errorf("%d calls, %d times synced: too few for this test", end, len(safe))
+	}
+	var synced []api.Record
+	for n := range end + 1 {
+		if l, there := safe[n]; there {
+			synced = l
 		}
+		for _, keep := range [][]int{nil, slices.Repeat([]int{3, 1, 13, 9, 70, 12, 99, 24}, 3), slices.Repeat([]int{plenty}, 30)} {
+			what := "broken behind " + strconv.Itoa(n)
+			d := toldOn(t, disk, n, steps)
+			checkErrors(t, what, api.OK, d.Crash(keep))
+			left := logOf(d)
+			checkBegins(t, what, whole, left)
+			checkBegins(t, what, left, synced)
+			checkGoesOn(t, what, d, n%9)
+		}
+	}
+	if end < 60 || len(safe) < 5 || len(whole) < len(synced) {
+		t.Errorf("%d calls, %d times synced: too few for this test", end, len(safe))
 	}
 }
 
@@ -157,16 +214,86 @@ func checkGoesOn(t *testing.T, what string, d *routelog.Disk, n int) {
 	}
 }
 
+// anyTale answers steps in any order, some of which are refused.
+func anyTale(r *rand.Rand, messages []string) tale {
+	var steps tale
+	for range 20 + r.Intn(40) {
+		peer := r.Intn(api.Peers)
+		m := messages[r.Intn(len(messages))]
+		switch n := r.Intn(20); {
+		case n == 0:
+			steps = append(steps, syncing())
+		case peer >= api.Sessions && n < 4:
+			steps = append(steps, feeding(came(peer)))
+		case peer >= api.Sessions:
+			steps = append(steps, feeding(says(peer, m)))
+		case n == 1:
+			steps = append(steps, disconnecting(peer))
+		case n < 5:
+			steps = append(steps, connecting(peer), hearing(peer, greeting(r.Intn(40))+alive+m))
+		default:
+			steps = append(steps, hearing(peer, m))
+		}
+	}
+	return steps
+}
+
+// brokenOff answers a disk with the files of another, on which steps were told that may be refused, and which breaks behind n calls.
+func (s tale) brokenOff(t *testing.T, from *routelog.Disk, n, time int) *routelog.Disk {
+	t.Helper()
+	files := filesOf(from)
+	d := diskOf(t, plenty, files)
+	checkErrors(t, "Crash", api.OK, d.Crash(slices.Repeat([]int{plenty}, len(files))), d.Break(n))
+	c := openedAnyhow(t, d)
+	for i, step := range s {
+		c.Tick(time + 2*i)
+		step.call(c)
+	}
+	checkAgrees(t, "any tale", d, c)
+	return d
+}
+
+// synced answers what of the log must outlast a crash behind brokenOff.
+func (s tale) synced(t *testing.T, from *routelog.Disk, n, time int) []api.Record {
+	t.Helper()
+	for i := len(s) - 1; i >= 0; i-- {
+		if s[i].syncs {
+			d := s[:i+1].brokenOff(t, from, n, time)
+			d.Append("probe", "x")
+			if _, e := d.Read("probe"); e == api.OK {
+				return logOf(d)
+			}
+		}
+	}
+	return logOf(from)
+}
+
+// Any tales, each broken off somewhere by a crash, each opened behind the one ahead of it (P21).
+func TestBrokenAgainAndAgain(t *testing.T) {
+	messages := someMessages(t)
+	r := rand.New(rand.NewSource(1))
+	for range 60 {
+		d := routelog.NewDisk(plenty)
+		for round := range 5 {
+			steps, n, time := anyTale(r, messages), r.Intn(150), 100*round
+			whole, synced := logOf(steps.brokenOff(t, d, plenty, time)), steps.synced(t, d, n, time)
+			d = steps.brokenOff(t, d, n, time)
+			checkErrors(t, "Crash", api.OK, d.Crash(r.Perm(200)[:12]))
+			checkBegins(t, "any tale", whole, logOf(d))
+			checkBegins(t, "what was synced", logOf(d), synced)
+		}
+	}
+}
+
 // What a collector has is at each step what its disk tells, at the time that is now and later (P20).
 func TestCollectorAgrees(t *testing.T) {
-	steps := longTale(t)
-	for n := 0; n < 150; n += 10 {
+	for n := 0; n < 400; n += 20 {
 		d := tornDisk(t)
 		checkErrors(t, "Break", api.OK, d.Break(n))
 		c := opened(t, d)
-		for i, step := range steps {
-			tale{step}.tell(t, c)
-			tick(t, c, 10+i)
+		for i, step := range longTale(t) {
+			_, e := c.Tick(10 + i)
+			checkErrors(t, "step "+strconv.Itoa(i), api.OK, e, step.call(c))
 			checkAgrees(t, "step "+strconv.Itoa(i), d, c)
 			for peer := range api.Peers {
 				now, isUp, _ := routelog.Query(d, peer, 10+i)
@@ -195,8 +322,17 @@ func TestCollectorOnADiskOfAnother(t *testing.T) {
 		d := routelog.NewDisk(plenty)
 		c := opened(t, d)
 		feed(t, c, came(4)+says(4, u)+came(5))
+		runs(t, c, 0, 1)
+		bring(t, c, 2, 0)
 		spoil(d)
-		for range 30 {
+		for i := range 30 {
+			c.Receive(0, u+u+alive)
+			c.Receive(1, u+u[:i]+notice(i))
+			c.Receive(2, greeting(i)+alive+u+alive+"wrong")
+			c.Disconnect(i % 7)
+			c.Connect(i % 5)
+			c.Tick(i * 7)
+			routelog.Replay(d, i%7, i)
 			c.Feed(came(4) + says(4, u) + gone(5) + came(5))
 			c.Feed("wrong")
 			c.Tick(9)

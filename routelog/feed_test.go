@@ -124,16 +124,20 @@ func TestFeedUpdates(t *testing.T) {
 	checkHas(t, "spoilt", c, 4, entry(t, tenOne, 1))
 }
 
-// A peer may have MaxRoutes routes behind an update, whatever there was in its midst, and no more.
-func TestFeedMaxRoutes(t *testing.T) {
+// routeTale is updates of a peer that is up, of which the last one is refused or none, and how many routes there are then.
+type routeTale struct {
+	what    string
+	updates []string
+	refused bool
+	left    int
+}
+
+// routeTales answers tales that lead to MaxRoutes routes, or to one more.
+func routeTales(t *testing.T) []routeTale {
+	t.Helper()
 	u := func(withdrawn, announced string) string { return announcingBytes(t, withdrawn, announced) }
 	most := u("", routesFrom(0, api.MaxRoutes))
-	for _, s := range []struct {
-		what    string
-		updates []string
-		refused bool
-		left    int
-	}{
+	return []routeTale{
 		{"at once", []string{most}, false, 12},
 		{"one more at once", []string{u("", routesFrom(0, api.MaxRoutes+1))}, true, 0},
 		{"twice the same", []string{most, most}, false, 12},
@@ -146,7 +150,20 @@ func TestFeedMaxRoutes(t *testing.T) {
 		{"one by one", []string{u("", routesFrom(0, 11)), u("", routesFrom(11, 1)), u(routesFrom(0, 2), ""), u("", routesFrom(20, 2))}, false, 12},
 		{"all for others", []string{most, u(routesFrom(0, 12), routesFrom(12, 12))}, false, 12},
 		{"spoilt", []string{most, updatingHex(t, "", "40 01 01 09", "18 0b 00 00 18 0a 00 01")}, false, 11},
-	} {
+	}
+}
+
+// checkSegment looks at the first segment of a disk, behind what an empty disk's begins with.
+func checkSegment(t *testing.T, what string, d *routelog.Disk, want ...api.Record) {
+	t.Helper()
+	if b, e := d.Read("s0001"); b != opening(0)+logged(want...) || e != api.OK {
+		t.Errorf("%s: the segment is %x, %d, want %x", what, b, e, opening(0)+logged(want...))
+	}
+}
+
+// A peer may have MaxRoutes routes behind an update, whatever there was in its midst, and no more.
+func TestFeedMaxRoutes(t *testing.T) {
+	for _, s := range routeTales(t) {
 		d := routelog.NewDisk(plenty)
 		c := opened(t, d)
 		feed(t, c, came(5), came(4))
@@ -158,9 +175,7 @@ func TestFeedMaxRoutes(t *testing.T) {
 		if s.refused {
 			log[len(log)-1] = down(0, 5)
 		}
-		if b, _ := d.Read("s0001"); b != opening(0)+logged(log...) {
-			t.Errorf("%s: the segment is %x", s.what, b)
-		}
+		checkSegment(t, s.what, d, log...)
 		if l, isUp, _ := c.Routes(5); len(l) != s.left || isUp == s.refused {
 			t.Errorf("%s: %d routes, %v, want %d", s.what, len(l), isUp, s.left)
 		}

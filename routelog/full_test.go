@@ -59,13 +59,19 @@ func (h *history) until(capacity int) (files content, full int) {
 	return files, h.call + 1
 }
 
-// A disk of any size: what there is room for is written, in the order of the document, and the call that finds none answers ErrFull.
-func TestFullAtAnyRoom(t *testing.T) {
-	u := announcing(t, 1, "", "08 0a")
-	h := history{files: content{}}
+// historyOfOpen answers what Open does to an empty disk.
+func historyOfOpen() *history {
+	h := &history{files: content{}}
 	h.lay("s0001", opening(0))
 	h.lay("index", indexed(1, 0))
 	h.lay("index", indexed(1, 0))
+	return h
+}
+
+// A disk of any size: what there is room for is written, in the order of the document, and the call that finds none answers ErrFull.
+func TestFullAtAnyRoom(t *testing.T) {
+	u := announcing(t, 1, "", "08 0a")
+	h := historyOfOpen()
 	calls := []string{"", came(4)}
 	h.call++
 	h.write("s0001", logged(up(0, 4)))
@@ -89,7 +95,7 @@ func TestFullAtAnyRoom(t *testing.T) {
 	h.write("s0002", logged(up(0, 4)))
 	wrong := len(calls) - 2
 	for capacity := -1; capacity < h.used()+50; capacity++ {
-		checkFullAt(t, capacity, calls, wrong, &h)
+		checkFullAt(t, capacity, calls, wrong, h)
 	}
 }
 

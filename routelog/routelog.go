@@ -120,4 +120,6 @@ func (c *Collector) Routes(peer int) ([]api.Entry, bool, api.Errno) { return c.w
 func (c *Collector) Writes() (bool, api.Errno) { return c.work().Writes() }
 
 // Replay tells a peer's routes as messages (P19).
-func Replay(d *Disk, peer int, t int) ([]string, api.Errno) { return nil, api.OK }
+func Replay(d *Disk, peer int, t int) ([]string, api.Errno) {
+	return journal.Replay(d.files(), peer, t)
+}
